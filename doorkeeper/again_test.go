@@ -22,8 +22,23 @@ func answers() []answer {
 	add(Pass("other", 4095))
 	add(Format(201))
 	add(Format(200))
+	for _, e := range askedOfAKeeper() {
+		add("", e)
+	}
 	add(Pass("s", 0))
 	return all
+}
+
+// askedOfAKeeper opens a new disk and makes a round of calls on it.
+func askedOfAKeeper() []api.Errno {
+	disk, _ := Format(12)
+	k, e := Open(disk, plain)
+	all := []api.Errno{e, k.Tick(3), k.Tick(-1), k.Logout("")}
+	for user := range 12 {
+		pass, e := k.Login(user)
+		all = append(all, e, k.Set(pass, "a", "b"), k.Touch(passOf(74)))
+	}
+	return append(all, k.Tick(10), k.Touch(passOf(74)))
 }
 
 func TestAnswersHangOnArgumentsAlone(t *testing.T) {

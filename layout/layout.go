@@ -15,18 +15,23 @@ var ErrSize = errors.New("layout: a disk has not 12 to 200 sectors")
 const (
 	mark            = "DK"
 	heads           = 2
+	front           = 8 // bytes of a record ahead of its payload
 	firstGeneration = 1
 	noSessions      = "\x00"
 )
 
 // Blank is a disk on which no session stands yet.
 func Blank(sectors int) (string, error) {
-	if sectors < api.MinSectors || sectors > api.MaxSectors {
+	if !isSize(sectors) {
 		return "", ErrSize
 	}
 	front := fill(Head(firstGeneration, 0), heads*api.Sector)
 	front += Record(firstGeneration, 0, noSessions)
 	return fill(front, sectors*api.Sector), nil
+}
+
+func isSize(sectors int) bool {
+	return sectors >= api.MinSectors && sectors <= api.MaxSectors
 }
 
 // Head is the sector that makes a region the one in use.
