@@ -22,15 +22,18 @@ func answers() []answer {
 	add(Pass("other", 4095))
 	add(Format(201))
 	add(Format(200))
-	for _, e := range askedOfAKeeper() {
+	errs, disk := askedOfAKeeper()
+	for _, e := range errs {
 		add("", e)
 	}
+	add(disk, api.OK)
 	add(Pass("s", 0))
 	return all
 }
 
-// askedOfAKeeper opens a new disk and makes a round of calls on it.
-func askedOfAKeeper() []api.Errno {
+// askedOfAKeeper opens a new disk and makes a round of calls on it. It answers
+// what is left of the disk, too.
+func askedOfAKeeper() ([]api.Errno, string) {
 	disk, _ := Format(12)
 	k, e := Open(disk, plain)
 	all := []api.Errno{e, k.Tick(3), k.Tick(-1), k.Logout("")}
@@ -38,7 +41,8 @@ func askedOfAKeeper() []api.Errno {
 		pass, e := k.Login(user)
 		all = append(all, e, k.Set(pass, "a", "b"), k.Touch(passOf(74)))
 	}
-	return append(all, k.Tick(10), k.Touch(passOf(74)))
+	all = append(all, k.Compact(), k.Tick(10), k.Touch(passOf(74)))
+	return all, k.Left(5, 0, 7)
 }
 
 func TestAnswersHangOnArgumentsAlone(t *testing.T) {

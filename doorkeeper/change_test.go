@@ -18,7 +18,7 @@ func TestChangesOnTheDisk(t *testing.T) {
 			number++
 			region += record(1, number, payload)
 		}
-		if want := fill(headOf(1, 0)+fill("", 32)+region, 3200); k.drive.Stable() != want {
+		if want := fill(headOf(1, 0)+fill("", 32)+region, 3200); k.disk(t) != want {
 			t.Fatalf("P6: behind %s the disk is another than with %q", what, payload)
 		}
 	}
@@ -109,7 +109,7 @@ func TestChangesAtTheEndOfTheRegion(t *testing.T) {
 			is(t, "P6: "+c.what+" without room", e, api.ErrFull)
 			gives(t, "P6: Live behind it", 1, api.OK)(k.Live())
 			gives(t, "P6: Get behind it", "........", api.OK)(k.Get(passOf(5), "nnnnnnnn"))
-			if k.drive.Stable() != diskOf(region) {
+			if k.disk(t) != diskOf(region) {
 				t.Errorf("P6: %s without room, and the disk is another", c.what)
 			}
 		}
@@ -123,14 +123,14 @@ func TestTheLastByteOfTheRegion(t *testing.T) {
 	k := opened(t, disk, plain)
 	is(t, "P6: Touch", k.Touch(passOf(5)), api.OK)
 	want := headOf(3, 0) + headOf(2, 1) + leaving(17) + record(3, 5, "T"+n(2, 5)+n(4, 0)) + other
-	if k.drive.Stable() != want {
-		t.Errorf("P6: the disk is %q", k.drive.Stable())
+	if k.disk(t) != want {
+		t.Errorf("P6: the disk is %q", k.disk(t))
 	}
 	for _, c := range changing {
 		is(t, "P6: "+c.what+" without a byte of room", c.call(k), api.ErrFull)
 	}
-	if k.drive.Stable() != want {
-		t.Errorf("P6: without room the disk is %q", k.drive.Stable())
+	if k.disk(t) != want {
+		t.Errorf("P6: without room the disk is %q", k.disk(t))
 	}
 }
 

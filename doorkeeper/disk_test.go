@@ -90,6 +90,17 @@ func gives[T comparable](t *testing.T, what string, want T, wantErr api.Errno) f
 	}
 }
 
+// disk is what is left behind a call: nothing is under way then, so it is the
+// same whatever of that were kept.
+func (k *Keeper) disk(t *testing.T) string {
+	t.Helper()
+	none := k.Left(0, -1, 0)
+	if k.Left(-1, -1, 0) != none || k.Left(0, 0, 7) != none {
+		t.Error("P6, P13: behind a call something is under way")
+	}
+	return none
+}
+
 func (k *Keeper) tick(t *testing.T, n int) {
 	t.Helper()
 	is(t, "P10: Tick", k.Tick(n), api.OK)

@@ -160,10 +160,15 @@ func (k *Keeper) Tick(n int) api.Errno {
 func (k *Keeper) Live() (int, api.Errno) { return k.sessions.Live(), api.OK }
 
 // Compact writes all anew (P11).
-func (k *Keeper) Compact() api.Errno { return api.OK }
+func (k *Keeper) Compact() api.Errno {
+	if err := k.journal.Compact(k.sessions); err != nil {
+		return api.ErrFull
+	}
+	return api.OK
+}
 
 // Arm says at which disk step from now on the power goes (P12).
 func (k *Keeper) Arm(n int) {}
 
 // Left tells what is on the disk, if the power goes now or is gone (P13).
-func (k *Keeper) Left(keep, torn, part int) string { return "" }
+func (k *Keeper) Left(keep, torn, part int) string { return k.drive.Left(keep, torn, part) }

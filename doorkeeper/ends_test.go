@@ -66,7 +66,7 @@ func TestTick(t *testing.T) {
 	}
 	k.login(t) // a login at the end of all time
 	is(t, "P10: Touch at the end", k.Touch(passOf(drawn(1))), api.OK)
-	again := opened(t, k.drive.Stable(), plain)
+	again := opened(t, k.disk(t), plain)
 	gives(t, "P5: Live, opened again", 2, api.OK)(again.Live())
 }
 

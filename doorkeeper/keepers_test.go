@@ -16,6 +16,10 @@ func TestKeepersDoNotTouchOneAnother(t *testing.T) {
 	gives(t, "P7: Login", passOf(74), api.OK)(a.Login(1))
 	is(t, "P9: Set", a.Set(passOf(5), "a", "of a"), api.OK)
 	a.tick(t, 9)
+	is(t, "P11: Compact", a.Compact(), api.OK)
+	if b.disk(t) != disk {
+		t.Error("P2: the disk of another keeper is another")
+	}
 	gives(t, "P2: Live of another keeper", 1, api.OK)(b.Live())
 	gives(t, "P2: Get of another keeper", "", api.ErrNone)(b.Get(passOf(5), "a"))
 	b.tick(t, 1)
@@ -48,15 +52,17 @@ func TestWhatIsHandedInIsNotKept(t *testing.T) {
 	c.Secret = lent("s")
 	k := opened(t, lent(diskOf(record(3, 0, snapshot)+record(3, 1, "S"+n(2, 5)+"\x01c\x03new"+n(4, 0)))), c)
 	is(t, "P9: Set", k.Set(lent(passOf(5)), lent("name"), lent("text")), api.OK)
-	disk := k.drive.Stable()
+	disk := k.disk(t)
 	for _, wipe := range wipes {
 		wipe()
 	}
+	if k.disk(t) != disk {
+		t.Error("P2: the disk was kept that was handed in")
+	}
+	is(t, "P11: Compact when the texts handed in are gone", k.Compact(), api.OK)
+	k = opened(t, k.disk(t), plain)
 	for name, want := range map[string]string{"own": "value", "c": "new", "name": "text"} {
 		gives(t, "P2: Get when the texts handed in are gone", want, api.OK)(k.Get(passOf(5), name))
-	}
-	if k.drive.Stable() != disk {
-		t.Error("P2: the disk was kept that was handed in")
 	}
 }
 
@@ -73,8 +79,16 @@ func TestAnyNumbersAndStrings(t *testing.T) {
 		empty(t, "Login", pass, e)
 		count, e := k.LogoutAll(number)
 		empty(t, "LogoutAll", count, e)
+		for _, other := range numbers {
+			for _, left := range []string{k.Left(number, other, 7), k.Left(0, number, other), k.Left(other, 1, number)} {
+				if left != k.disk(t) {
+					t.Errorf("P13: Left of %d and %d is another disk", number, other)
+				}
+			}
+		}
+		k.Compact()
 		if k.Tick(number) == api.OK && number != 0 && number != 1 {
-			k = opened(t, k.drive.Stable(), plain)
+			k = opened(t, k.disk(t), plain)
 		}
 	}
 	for _, a := range texts {

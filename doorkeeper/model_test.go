@@ -4,21 +4,25 @@ import (
 	"math/rand"
 	"sort"
 	"strconv"
+	"strings"
 	"testing"
 
 	"doorkeeper/api"
 )
 
 // model does what the document says in the plainest way, with lists instead of
-// maps and with the region as one text: it and a keeper are asked the same.
+// maps and with the regions as texts: it and a keeper are asked the same.
 type model struct {
-	c       api.Config
-	passes  map[string]int // each that there can be
-	live    []modelSession
-	region  string
-	room    int // bytes of the region
-	number  int
-	x, time int
+	c          api.Config
+	passes     map[string]int // each that there can be
+	live       []modelSession
+	heads      [2]string
+	regions    [2]string // without the noughts at the end
+	room       int       // bytes of a region
+	generation int
+	head, used int // the sector of the head, and the region in use
+	number     int
+	x, time    int
 }
 
 type modelSession struct {
@@ -36,12 +40,23 @@ func (m *model) at(id int) int {
 }
 
 func (m *model) write(payload string) api.Errno {
-	r := record(1, m.number, payload)
-	if len(m.region)+len(r) > m.room {
+	r := record(m.generation, m.number, payload)
+	if len(m.regions[m.used])+len(r) > m.room {
 		return api.ErrFull
 	}
-	m.region += r
+	m.regions[m.used] += r
 	m.number++
+	return api.OK
+}
+
+func (m *model) compact() api.Errno {
+	r := record(m.generation+1, 0, m.snapshot())
+	if m.generation == 1000000000 || len(r) > m.room {
+		return api.ErrFull
+	}
+	m.generation, m.head, m.used, m.number = m.generation+1, 1-m.head, 1-m.used, 1
+	m.regions[m.used] = r
+	m.heads[m.head] = headOf(m.generation, m.used)
 	return api.OK
 }
 
@@ -206,10 +221,11 @@ func (m *model) tick(by int) api.Errno {
 }
 
 func (m *model) disk(sectors int) string {
-	return fill(headOf(1, 0)+fill("", 32)+m.region, 32*sectors)
+	heads := m.heads[0] + m.heads[1]
+	return fill(heads+fill(m.regions[0], m.room)+fill(m.regions[1], m.room), 32*sectors)
 }
 
-// snapshot is the one of all sessions, to begin another region with.
+// snapshot is the one of all sessions.
 func (m *model) snapshot() string {
 	sort.Slice(m.live, func(i, j int) bool { return m.live[i].id < m.live[j].id })
 	text := n(1, len(m.live))
@@ -240,8 +256,17 @@ func (b *both) reopen() {
 	b.k = opened(b.T, b.m.disk(b.sectors), b.m.c)
 }
 
-func (b *both) begin(snapshot string) {
-	b.m.region, b.m.number = record(1, 0, snapshot), 1
+// begin has no sessions. The head and its region are anywhere, and the others
+// are whatever they are.
+func (b *both) begin() {
+	m, r := b.m, b.r
+	m.generation, m.number, m.head, m.used = 2+r.Intn(7), 1, r.Intn(2), r.Intn(2)
+	if r.Intn(4) == 0 {
+		m.generation = 1000000000 - r.Intn(7)
+	}
+	others := []string{fill("", 32), headOf(m.generation-1, r.Intn(2)), fill("DK", 32), "a sector that is not any head ..."[:32]}
+	m.heads[m.head], m.heads[1-m.head] = headOf(m.generation, m.used), others[r.Intn(len(others))]
+	m.regions[m.used], m.regions[1-m.used] = record(m.generation, 0, "\x00"), strings.Repeat("other...", r.Intn(m.room/8+1))
 	b.reopen()
 }
 
@@ -267,6 +292,9 @@ func (b *both) got(pass string, e api.Errno) (string, api.Errno) {
 // ask asks for something, and tells what, and what both answered.
 func (b *both) ask() (what, got, want string) {
 	pass, name, text, user := b.pass(), b.text(), b.text(), b.r.Intn(6)
+	if b.r.Intn(30) == 0 {
+		return "Compact", told("", b.k.Compact()), told("", b.m.compact())
+	}
 	switch b.r.Intn(10) {
 	case 0, 1:
 		return "Login", told(b.got(b.k.Login(user))), told(b.m.login(user))
@@ -305,21 +333,18 @@ func TestKeeperAndModel(t *testing.T) {
 		b := &both{T: t, m: m, r: r, sectors: 12 + r.Intn(189)}
 		m.c.Idle, m.c.Absolute = 1+r.Intn(40), 1+r.Intn(200)
 		m.room = (b.sectors - 2) / 2 * 32
-		b.begin("\x00")
+		b.begin()
 		for i := range 400 {
 			what, got, want := b.ask()
 			if got != want {
-				t.Fatalf("P5 to P10: seed %d, call %d: %s = %s, want %s", seed, i, what, got, want)
+				t.Fatalf("P5 to P11: seed %d, call %d: %s = %s, want %s", seed, i, what, got, want)
 			}
 			gives(t, "P10: Live", len(m.live), api.OK)(b.k.Live())
-			if b.k.drive.Stable() != m.disk(b.sectors) {
-				t.Fatalf("P6: seed %d, call %d: behind %s the disk is another", seed, i, what)
+			if b.k.disk(b.T) != m.disk(b.sectors) {
+				t.Fatalf("P6, P11, P13: seed %d, call %d: behind %s the disk is another", seed, i, what)
 			}
 			if r.Intn(40) == 0 {
 				b.reopen()
-			}
-			if room := record(1, 0, m.snapshot()); len(room) < m.room/2 && r.Intn(150) == 0 {
-				b.begin(m.snapshot())
 			}
 		}
 	}

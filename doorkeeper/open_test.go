@@ -74,7 +74,7 @@ func TestOpenOfEachSize(t *testing.T) {
 		k := opened(t, disk, plain)
 		is(t, "P5: Touch of a session in region 1", k.Touch(passOf(5)), api.OK)
 		want := disk[:64+half] + fill(record(7, 0, "\x01"+session(5, 1, 0, 0))+record(7, 1, "T"+n(2, 5)+n(4, 0)), half)
-		if got := k.drive.Stable(); got != fill(want, 32*sectors) {
+		if got := k.disk(t); got != fill(want, 32*sectors) {
 			t.Errorf("P5, P6: of %d sectors the disk is another behind Touch", sectors)
 		}
 	}
@@ -121,11 +121,11 @@ func TestOpenMakesNoughts(t *testing.T) {
 	} {
 		k := opened(t, diskOf(snapshot+c.unfit+record(3, 2, login)), plain)
 		gives(t, "P5: Live behind "+c.what, 1, api.OK)(k.Live())
-		if got := k.drive.Stable(); got != diskOf(snapshot) {
+		if got := k.disk(t); got != diskOf(snapshot) {
 			t.Errorf("P5: %s: the disk is %q", c.what, got)
 		}
 		is(t, "P5: Touch behind "+c.what, k.Touch(passOf(5)), api.OK)
-		if got := k.drive.Stable(); got != diskOf(snapshot+record(3, 1, "T"+n(2, 5)+n(4, 0))) {
+		if got := k.disk(t); got != diskOf(snapshot+record(3, 1, "T"+n(2, 5)+n(4, 0))) {
 			t.Errorf("P6: %s: behind Touch the disk is %q", c.what, got)
 		}
 	}
@@ -135,7 +135,7 @@ func TestOpenLeavesTheRestOfTheDisk(t *testing.T) {
 	other := strings.Repeat("other...", 20)
 	disk := fill("", 32) + headOf(3, 0) + fill(record(3, 0, "\x00")+"bytes", 160) + other + strings.Repeat("rest", 8)
 	k := opened(t, disk, plain)
-	if want := strings.Replace(disk, "bytes", fill("", 5), 1); k.drive.Stable() != want {
-		t.Errorf("P5: the disk is %q, want %q", k.drive.Stable(), want)
+	if want := strings.Replace(disk, "bytes", fill("", 5), 1); k.disk(t) != want {
+		t.Errorf("P5: the disk is %q, want %q", k.disk(t), want)
 	}
 }

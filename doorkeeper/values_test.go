@@ -37,7 +37,7 @@ func TestValuesInAnyOrder(t *testing.T) {
 		for _, name := range names {
 			is(t, "P9: Set", k.Set(pass, name, name+"!"), api.OK)
 		}
-		again := opened(t, k.drive.Stable(), plain)
+		again := opened(t, k.disk(t), plain)
 		for _, name := range names {
 			gives(t, "P9: Get", name+"!", api.OK)(k.Get(pass, name))
 			gives(t, "P5: Get, opened again", name+"!", api.OK)(again.Get(pass, name))

@@ -8,6 +8,8 @@ import (
 	"doorkeeper/layout"
 )
 
+const lastBit = 62 // of those that tell of a sector under way
+
 // Drive is a disk. A sector that was written is under way until the next
 // flush.
 type Drive struct {
@@ -26,6 +28,9 @@ func New(disk string) (*Drive, error) {
 
 // Stable is what stands on the disk, without what is under way.
 func (d *Drive) Stable() string { return string(d.stable) }
+
+// Sectors tells how many the disk has.
+func (d *Drive) Sectors() int { return len(d.stable) / api.Sector }
 
 // Clear makes the bytes from begin to end noughts, at once.
 func (d *Drive) Clear(begin, end int) {
@@ -61,3 +66,25 @@ func (d *Drive) Flush() {
 	}
 	d.underWay = d.underWay[:0]
 }
+
+// Left is the disk if the power goes now: of the sectors under way the i-th in
+// the row is as it was written if keep has the bit i. The one in the place torn
+// has its first part bytes alone from there, whatever keep has.
+func (d *Drive) Left(keep, torn, part int) string {
+	disk := slices.Clone(d.stable)
+	for i, sector := range d.underWay {
+		done := 0
+		if i == torn {
+			done = min(max(part, 0), api.Sector)
+		} else if hasBit(keep, i) {
+			done = api.Sector
+		}
+		begin := sector * api.Sector
+		copy(disk[begin:begin+done], d.written[begin:])
+	}
+	return string(disk)
+}
+
+// hasBit takes the last bit for all behind it. It asks 64 bits, for an int may
+// have 32.
+func hasBit(n, i int) bool { return int64(n)>>min(i, lastBit)&1 == 1 }

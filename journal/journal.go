@@ -5,26 +5,38 @@ import (
 	"errors"
 	"math"
 
-	"doorkeeper/drive"
+	"doorkeeper/api"
 	"doorkeeper/layout"
 	"doorkeeper/sessions"
 )
 
-// ErrFull says that there is no room for a record more.
-var ErrFull = errors.New("journal: the region is full")
+// ErrFull says that there is no room for a record more, or no generation.
+var ErrFull = errors.New("journal: no room")
+
+const lastGeneration = 1000000000
+
+// Drive is what a journal asks of a drive. It is an interface so that a test can
+// watch in which row the steps come: on that hangs what a loss of power leaves.
+type Drive interface {
+	Sectors() int
+	Stable() string
+	Clear(begin, end int)
+	Put(begin int, text string)
+	Flush()
+}
 
 // Journal is the region in use of a drive.
 type Journal struct {
-	drive      *drive.Drive
-	generation uint32
-	number     int // of the next record
-	next       int // where that is to begin
-	end        int // of the region
+	drive  Drive
+	head   layout.Place // that made it the one in use
+	number int          // of the next record
+	next   int          // where that is to begin
+	end    int          // of the region
 }
 
 // Open reads the sessions that a drive tells of, and makes noughts of what
 // stands behind.
-func Open(d *drive.Drive) (*Journal, *sessions.State, error) {
+func Open(d Drive) (*Journal, *sessions.State, error) {
 	disk := d.Stable()
 	j, err := find(d, disk)
 	if err != nil {
@@ -40,17 +52,18 @@ func Open(d *drive.Drive) (*Journal, *sessions.State, error) {
 	return j, state, nil
 }
 
-func find(d *drive.Drive, disk string) (*Journal, error) {
-	sectors, err := layout.Sectors(len(disk))
-	if err != nil {
-		return nil, err
-	}
+func find(d Drive, disk string) (*Journal, error) {
 	head, err := layout.TheHead(disk)
 	if err != nil {
 		return nil, err
 	}
-	begin, end := layout.Region(sectors, head.Region)
-	return &Journal{drive: d, generation: head.Generation, next: begin, end: end}, nil
+	return begin(d, head), nil
+}
+
+// begin is the journal that begins in a head's region.
+func begin(d Drive, head layout.Place) *Journal {
+	next, end := layout.Region(d.Sectors(), head.Region)
+	return &Journal{drive: d, head: head, next: next, end: end}
 }
 
 func (j *Journal) readSnapshot(disk string) (*sessions.State, error) {
@@ -82,7 +95,7 @@ func (j *Journal) readChange(disk string, state *sessions.State) bool {
 }
 
 func (j *Journal) read(disk string) (string, int, error) {
-	return layout.ReadRecord(disk[j.next:j.end], j.generation, uint16(j.number))
+	return layout.ReadRecord(disk[j.next:j.end], j.head.Generation, uint16(j.number))
 }
 
 func (j *Journal) pass(bytes int) {
@@ -95,12 +108,38 @@ func (j *Journal) Append(change sessions.Change) error {
 	if j.number > math.MaxUint16 {
 		return ErrFull
 	}
-	record := layout.Record(j.generation, uint16(j.number), change.Payload())
-	if len(record) > j.end-j.next {
+	record := j.record(change.Payload())
+	if len(record) > j.room() {
 		return ErrFull
 	}
 	j.drive.Put(j.next, record)
 	j.drive.Flush()
 	j.pass(len(record))
+	return nil
+}
+
+func (j *Journal) record(payload string) string {
+	return layout.Record(j.head.Generation, uint16(j.number), payload)
+}
+
+func (j *Journal) room() int { return j.end - j.next }
+
+// Compact begins the other region with a snapshot of all sessions, and goes on
+// there. Its head comes last: what a head tells of must stand on the disk.
+func (j *Journal) Compact(state *sessions.State) error {
+	if j.head.Generation >= lastGeneration {
+		return ErrFull
+	}
+	other := begin(j.drive, j.head.Next())
+	record := other.record(state.Snapshot())
+	if len(record) > other.room() {
+		return ErrFull
+	}
+	j.drive.Put(other.next, layout.Fill(record, other.room()))
+	j.drive.Flush()
+	j.drive.Put(other.head.Sector*api.Sector, layout.Head(other.head.Generation, other.head.Region))
+	j.drive.Flush()
+	other.pass(len(record))
+	*j = *other
 	return nil
 }

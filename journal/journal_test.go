@@ -176,3 +176,161 @@ func TestAppendOfTheLastNumber(t *testing.T) {
 		t.Errorf("P6: with number 65536: %v", err)
 	}
 }
+
+// The other region, the other sector: each by itself, and what stands in the
+// region in use and behind both regions stays.
+func TestCompact(t *testing.T) {
+	state := "\x01\x05\x00\x01" + fill("", 8) + "\x00"
+	used := layout.Record(7, 1, sessions.Change{Kind: sessions.Used, ID: 5, Time: 9}.Payload())
+	after := fill("\x01\x05\x00\x01\x00\x00\x00\x00\x09", 13)
+	junk, rest := strings.Repeat("other...", 20), strings.Repeat("rest", 8)
+	place := func(place int, there, other string) string {
+		if place == 0 {
+			return there + other
+		}
+		return other + there
+	}
+	for _, other := range []string{fill("", 32), layout.Head(6, 0), layout.Head(7, 1), strings.Repeat("head", 8)} {
+		for _, c := range []struct{ sector, region int }{{0, 0}, {0, 1}, {1, 0}, {1, 1}} {
+			if c.sector == 1 && other == layout.Head(7, 1) {
+				continue // of two of one generation that in sector 0 is the head
+			}
+			head := layout.Head(7, uint8(c.region))
+			before := fill(layout.Record(7, 0, state)+used, 160)
+			j, s, d := opened(t, place(c.sector, head, other)+place(c.region, before, junk)+rest)
+			if err := j.Compact(s); err != nil {
+				t.Fatalf("P11: %v", err)
+			}
+			heads := place(c.sector, head, layout.Head(8, uint8(1-c.region)))
+			record := layout.Record(8, 0, after)
+			want := heads + place(c.region, before, fill(record, 160)) + rest
+			if d.Stable() != want || d.Left(-1, -1, 0) != want {
+				t.Errorf("P11: of %v the disk is\n%q, want\n%q", c, d.Stable(), want)
+			}
+			if err := j.Append(login); err != nil {
+				t.Errorf("P11: a change behind it: %v", err)
+			}
+			record += layout.Record(8, 1, login.Payload())
+			if want = heads + place(c.region, before, fill(record, 160)) + rest; d.Stable() != want {
+				t.Errorf("P11: of %v behind a change the disk is\n%q, want\n%q", c, d.Stable(), want)
+			}
+		}
+	}
+}
+
+// Compact and Compact again: to and fro, each time with what was changed.
+func TestCompactToAndFro(t *testing.T) {
+	j, s, d := opened(t, fill(layout.Head(1, 0)+fill("", 32)+layout.Record(1, 0, "\x00"), 384))
+	for i := range 9 {
+		change := sessions.Change{Kind: sessions.Begun, ID: i, User: 1, Time: i}
+		if err := j.Append(change); err != nil {
+			t.Fatalf("P11: change %d: %v", i, err)
+		}
+		s.Do(change)
+		if err := j.Compact(s); err != nil {
+			t.Fatalf("P11: Compact %d: %v", i, err)
+		}
+		head, err := layout.TheHead(d.Stable())
+		if want := (layout.Place{Generation: uint32(i + 2), Region: uint8(1 - i%2), Sector: 1 - i%2}); head != want || err != nil {
+			t.Errorf("P11: the head is %v, want %v", head, want)
+		}
+		if _, again, _ := opened(t, d.Stable()); again.Snapshot() != s.Snapshot() {
+			t.Errorf("P11: opened again it has %q, want %q", again.Snapshot(), s.Snapshot())
+		}
+	}
+}
+
+func TestCompactOfTheLastGeneration(t *testing.T) {
+	for _, c := range []struct {
+		generation uint32
+		want       error
+	}{
+		{1, nil}, {999999998, nil}, {999999999, nil},
+		{1000000000, ErrFull}, {1000000001, ErrFull}, {1<<32 - 2, ErrFull}, {1<<32 - 1, ErrFull},
+	} {
+		j, s, d := opened(t, fill(layout.Head(c.generation, 0)+fill("", 32)+layout.Record(c.generation, 0, "\x00"), 384))
+		before := d.Stable()
+		if err := j.Compact(s); !errors.Is(err, c.want) {
+			t.Errorf("P11: of generation %d: %v, want %v", c.generation, err, c.want)
+		}
+		if (d.Left(-1, -1, 0) == before) != (c.want != nil) {
+			t.Errorf("P11: of generation %d the disk is %q", c.generation, d.Left(-1, -1, 0))
+		}
+		if err := j.Append(login); err != nil {
+			t.Errorf("P11: of generation %d, a change behind it: %v", c.generation, err)
+		}
+		s.Do(login)
+		if _, again, _ := opened(t, d.Stable()); again.Live() != 1 {
+			t.Errorf("P11: of generation %d: %d live, opened again", c.generation, again.Live())
+		}
+	}
+}
+
+// crowd is six sessions with eleven values: a snapshot whose record fills a
+// region of 160 bytes when the last value has four.
+func crowd(last string) []sessions.Change {
+	var changes []sessions.Change
+	for id := range 6 {
+		changes = append(changes, sessions.Change{Kind: sessions.Begun, ID: id, User: 1})
+	}
+	for i := range 10 {
+		name := string([]byte{'a' + byte(i%2)})
+		changes = append(changes, sessions.Change{Kind: sessions.ValueSet, ID: i / 2, Name: name, Text: "1234"})
+	}
+	return append(changes, sessions.Change{Kind: sessions.ValueSet, ID: 5, Name: "a", Text: last})
+}
+
+// A snapshot that fills its region to the last byte, and one that has a byte
+// more: then nothing is written, and the old region goes on.
+func TestCompactAtTheEndOfTheRegion(t *testing.T) {
+	for _, c := range []struct {
+		last  string
+		bytes int
+		want  error
+	}{{"123", 159, nil}, {"1234", 160, nil}, {"12345", 161, ErrFull}, {"12345678", 164, ErrFull}} {
+		j, s, d := opened(t, diskOf(none))
+		for _, change := range crowd(c.last) {
+			s.Do(change)
+		}
+		record := layout.Record(4, 0, s.Snapshot())
+		if len(record) != c.bytes {
+			t.Fatalf("the test's own snapshot has a record of %d bytes, not %d", len(record), c.bytes)
+		}
+		if err := j.Compact(s); !errors.Is(err, c.want) {
+			t.Errorf("P11: of %d bytes: %v, want %v", c.bytes, err, c.want)
+		}
+		want, behind := diskOf(none), none+layout.Record(3, 1, login.Payload())
+		if c.want == nil {
+			want = layout.Head(3, 0) + layout.Head(4, 1) + fill(none, 160) + fill(record, 160)
+		}
+		if d.Stable() != want || d.Left(-1, -1, 0) != want {
+			t.Errorf("P11: of %d bytes the disk is\n%q, want\n%q", c.bytes, d.Stable(), want)
+		}
+		err := j.Append(login)
+		if c.want == nil && !errors.Is(err, ErrFull) {
+			t.Errorf("P11: of %d bytes, a change behind it: %v", c.bytes, err)
+		}
+		if c.want != nil && (err != nil || d.Stable() != diskOf(behind)) {
+			t.Errorf("P11: of %d bytes, a change behind it: %v, and the disk is %q", c.bytes, err, d.Stable())
+		}
+	}
+}
+
+// Compact gives room, and numbers, anew.
+func TestCompactBehindTheLastNumber(t *testing.T) {
+	j, s, d := opened(t, diskOf(none))
+	j.number = 65536
+	if err := j.Append(login); !errors.Is(err, ErrFull) {
+		t.Errorf("P6: with number 65536: %v", err)
+	}
+	if err := j.Compact(s); err != nil {
+		t.Errorf("P11: with number 65536: %v", err)
+	}
+	if err := j.Append(login); err != nil {
+		t.Errorf("P11: with number 1 again: %v", err)
+	}
+	record := layout.Record(4, 0, "\x00") + layout.Record(4, 1, login.Payload())
+	if want := layout.Head(3, 0) + layout.Head(4, 1) + fill(none, 160) + fill(record, 160); d.Stable() != want {
+		t.Errorf("P11: with number 1 again the disk is\n%q, want\n%q", d.Stable(), want)
+	}
+}

@@ -25,9 +25,9 @@ func Blank(sectors int) (string, error) {
 	if !isSize(sectors) {
 		return "", ErrSize
 	}
-	front := fill(Head(firstGeneration, 0), heads*api.Sector)
+	front := Fill(Head(firstGeneration, 0), heads*api.Sector)
 	front += Record(firstGeneration, 0, noSessions)
-	return fill(front, sectors*api.Sector), nil
+	return Fill(front, sectors*api.Sector), nil
 }
 
 func isSize(sectors int) bool {
@@ -37,7 +37,7 @@ func isSize(sectors int) bool {
 // Head is the sector that makes a region the one in use.
 func Head(generation uint32, region uint8) string {
 	head := mark + octets.Four(generation) + octets.One(region)
-	return fill(summed(head), api.Sector)
+	return Fill(summed(head), api.Sector)
 }
 
 // Record is a payload as it stands in a region. The payload has at most 65535
@@ -49,6 +49,7 @@ func Record(generation uint32, number uint16, payload string) string {
 
 func summed(text string) string { return text + octets.Two(octets.Sum(text)) }
 
-func fill(text string, bytes int) string {
+// Fill is a text with noughts behind it, so many bytes in all.
+func Fill(text string, bytes int) string {
 	return text + strings.Repeat("\x00", bytes-len(text))
 }

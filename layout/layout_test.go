@@ -41,6 +41,20 @@ func TestRecord(t *testing.T) {
 	}
 }
 
+func TestFill(t *testing.T) {
+	for _, c := range []struct {
+		text  string
+		bytes int
+		want  string
+	}{
+		{"", 0, ""}, {"", 3, "\x00\x00\x00"}, {"abc", 3, "abc"}, {"abc", 5, "abc\x00\x00"},
+	} {
+		if got := Fill(c.text, c.bytes); got != c.want {
+			t.Errorf("Fill(%q, %d) = %q, want %q", c.text, c.bytes, got, c.want)
+		}
+	}
+}
+
 func TestBlank(t *testing.T) {
 	for _, sectors := range []int{12, 200} {
 		if disk, err := Blank(sectors); len(disk) != 32*sectors || err != nil {

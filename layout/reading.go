@@ -15,10 +15,18 @@ var (
 	ErrRecord = errors.New("layout: no such record")
 )
 
-// Place is what a head tells: the region in use, and its records' generation.
+// Place is what a head tells: the region in use, and its records' generation;
+// and the sector, 0 or 1, in which the head stands.
 type Place struct {
 	Generation uint32
 	Region     uint8
+	Sector     int
+}
+
+// Next is the place to go on at: the region that is not in use. Its head is to
+// stand in the other sector, so that this one holds until that is written.
+func (p Place) Next() Place {
+	return Place{Generation: p.Generation + 1, Region: 1 - p.Region, Sector: 1 - p.Sector}
 }
 
 // Sectors tells how many sectors a disk of so many bytes has.
@@ -45,6 +53,7 @@ func TheHead(disk string) (Place, error) {
 		place, ok := readHead(disk[i*api.Sector : (i+1)*api.Sector])
 		if ok && place.Generation > best.Generation {
 			best = place
+			best.Sector = i
 		}
 	}
 	if best.Generation == 0 {

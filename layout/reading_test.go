@@ -41,14 +41,14 @@ func TestTheHead(t *testing.T) {
 		disk string
 		want Place
 	}{
-		{"the first", Head(1, 0) + none, Place{1, 0}},
-		{"the second", none + Head(7, 1), Place{7, 1}},
-		{"the first is greater", Head(8, 1) + Head(7, 0), Place{8, 1}},
-		{"the second is greater", Head(7, 1) + Head(8, 0), Place{8, 0}},
-		{"two of one generation", Head(8, 1) + Head(8, 0), Place{8, 1}},
-		{"the greatest", Head(high, 1) + Head(high-1, 0), Place{high, 1}},
-		{"the greater is none", Head(8, 2) + Head(7, 1), Place{7, 1}},
-		{"and more behind", Head(1, 0) + none + Head(2, 1), Place{1, 0}},
+		{"the first", Head(1, 0) + none, Place{1, 0, 0}},
+		{"the second", none + Head(7, 1), Place{7, 1, 1}},
+		{"the first is greater", Head(8, 1) + Head(7, 0), Place{8, 1, 0}},
+		{"the second is greater", Head(7, 1) + Head(8, 0), Place{8, 0, 1}},
+		{"two of one generation", Head(8, 1) + Head(8, 0), Place{8, 1, 0}},
+		{"the greatest", Head(high, 1) + Head(high-1, 0), Place{high, 1, 0}},
+		{"the greater is none", Head(8, 2) + Head(7, 1), Place{7, 1, 1}},
+		{"and more behind", Head(1, 0) + none + Head(2, 1), Place{1, 0, 0}},
 	} {
 		if got, err := TheHead(c.disk); got != c.want || err != nil {
 			t.Errorf("P5: %s: %v, %v", c.what, got, err)
@@ -59,6 +59,18 @@ func TestTheHead(t *testing.T) {
 	} {
 		if got, err := TheHead(disk); got != (Place{}) || !errors.Is(err, ErrHead) {
 			t.Errorf("P5: the head of % x is %v, %v", disk, got, err)
+		}
+	}
+}
+
+// Region and sector change over, each by itself: they need not be alike.
+func TestNext(t *testing.T) {
+	for _, c := range []struct{ place, want Place }{
+		{Place{1, 0, 0}, Place{2, 1, 1}}, {Place{2, 1, 1}, Place{3, 0, 0}},
+		{Place{7, 0, 1}, Place{8, 1, 0}}, {Place{999999999, 1, 0}, Place{1000000000, 0, 1}},
+	} {
+		if got := c.place.Next(); got != c.want {
+			t.Errorf("P11: next of %v is %v, want %v", c.place, got, c.want)
 		}
 	}
 }

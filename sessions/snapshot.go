@@ -1,6 +1,33 @@
 package sessions
 
-import "doorkeeper/api"
+import (
+	"maps"
+	"slices"
+	"strings"
+
+	"doorkeeper/api"
+	"doorkeeper/octets"
+)
+
+// Snapshot is the payload that tells all sessions.
+func (s *State) Snapshot() string {
+	var text strings.Builder
+	text.WriteString(octets.One(uint8(len(s.live))))
+	for _, id := range slices.Sorted(maps.Keys(s.live)) {
+		text.WriteString(s.live[id].payload())
+	}
+	return text.String()
+}
+
+func (s *Session) payload() string {
+	text := octets.Two(uint16(s.ID)) + octets.One(uint8(s.user))
+	text += octets.Four(uint32(s.created)) + octets.Four(uint32(s.used))
+	text += octets.One(uint8(len(s.values)))
+	for _, value := range s.values {
+		text += counted(value.name) + counted(value.text)
+	}
+	return text
+}
 
 // ReadSnapshot reads the payload that tells all sessions.
 func ReadSnapshot(payload string) (*State, error) {

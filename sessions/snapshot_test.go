@@ -45,6 +45,55 @@ func TestReadSnapshot(t *testing.T) {
 	s.has(t, 4095, "b", "", false)
 }
 
+// What is read is written byte for byte as it was.
+func TestSnapshotOfWhatWasRead(t *testing.T) {
+	twelve := "\x0c"
+	for id := range 12 {
+		twelve += string([]byte{byte(300 - 25*id), byte(id), byte(99 - id)}) + times + "\x01\x01a\x00"
+	}
+	for _, payload := range []string{
+		"\x00",
+		"\x01\x05\x00\x01" + times + noValues,
+		"\x01\xff\x0f\x63" + million + "\x01\x02\x03\x04\x03\x08aaaaaaaa\x08\x00\xff345678\x08aaaaaaab\x00\x01b\x01z",
+		"\x02\xff\x00\x02" + times + "\x02\x01Z\x00\x01a\x01x\x00\x01\x01" + times + "\x01\x01\x80\x00",
+		twelve,
+	} {
+		s, err := ReadSnapshot(payload)
+		if err != nil {
+			t.Fatalf("P5: %q is not read: %v", payload, err)
+		}
+		for range 5 {
+			if got := s.Snapshot(); got != payload {
+				t.Errorf("P11: the snapshot is\n%q, want\n%q", got, payload)
+			}
+		}
+	}
+}
+
+// Numbers and names rise, in whichever order they came.
+func TestSnapshotBehindChanges(t *testing.T) {
+	s, _ := ReadSnapshot("\x00")
+	for _, c := range []struct {
+		change Change
+		want   string
+	}{
+		{Change{Kind: Begun, ID: 256, User: 2, Time: 1}, "\x01\x00\x01\x02\x01\x00\x00\x00\x01\x00\x00\x00\x00"},
+		{Change{Kind: ValueSet, ID: 256, Name: "b", Text: "2", Time: 3}, "\x01\x00\x01\x02\x01\x00\x00\x00\x03\x00\x00\x00\x01\x01b\x012"},
+		{Change{Kind: ValueSet, ID: 256, Name: "a", Time: 3}, "\x01\x00\x01\x02\x01\x00\x00\x00\x03\x00\x00\x00\x02\x01a\x00\x01b\x012"},
+		{Change{Kind: ValueSet, ID: 256, Name: "b", Text: "new", Time: 4}, "\x01\x00\x01\x02\x01\x00\x00\x00\x04\x00\x00\x00\x02\x01a\x00\x01b\x03new"},
+		{Change{Kind: Begun, ID: 255, User: 99, Time: 5}, "\x02\xff\x00\x63\x05\x00\x00\x00\x05\x00\x00\x00\x00\x00\x01\x02\x01\x00\x00\x00\x04\x00\x00\x00\x02\x01a\x00\x01b\x03new"},
+		{Change{Kind: Renumbered, ID: 256, NewID: 1, Time: 6}, "\x02\x01\x00\x02\x01\x00\x00\x00\x06\x00\x00\x00\x02\x01a\x00\x01b\x03new\xff\x00\x63\x05\x00\x00\x00\x05\x00\x00\x00\x00"},
+		{Change{Kind: Ended, ID: 1}, "\x01\xff\x00\x63\x05\x00\x00\x00\x05\x00\x00\x00\x00"},
+		{Change{Kind: Used, ID: 255, Time: 1000000000}, "\x01\xff\x00\x63\x05\x00\x00\x00" + million + "\x00"},
+		{Change{Kind: AllEnded, User: 99}, "\x00"},
+	} {
+		s.Do(c.change)
+		if got := s.Snapshot(); got != c.want {
+			t.Errorf("P11: behind %v the snapshot is\n%q, want\n%q", c.change, got, c.want)
+		}
+	}
+}
+
 func TestReadSnapshotRefuses(t *testing.T) {
 	one := "\x01\x05\x00\x01" + times
 	thirteen := "\x0d"
