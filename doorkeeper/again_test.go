@@ -42,6 +42,8 @@ func askedOfAKeeper() ([]api.Errno, string) {
 		all = append(all, e, k.Set(pass, "a", "b"), k.Touch(passOf(74)))
 	}
 	all = append(all, k.Compact(), k.Tick(10), k.Touch(passOf(74)))
+	k.Arm(3)
+	all = append(all, k.Compact(), k.Touch(passOf(74)))
 	return all, k.Left(5, 0, 7)
 }
 

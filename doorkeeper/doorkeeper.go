@@ -54,6 +54,9 @@ func Open(disk string, c api.Config) (*Keeper, api.Errno) {
 
 // Login begins a session (P7).
 func (k *Keeper) Login(user int) (string, api.Errno) {
+	if k.drive.IsDown() {
+		return "", api.ErrDown
+	}
 	if !sessions.IsUser(user) {
 		return "", api.ErrArg
 	}
@@ -134,6 +137,9 @@ func (k *Keeper) Logout(pass string) api.Errno {
 
 // LogoutAll ends all of a user (P10).
 func (k *Keeper) LogoutAll(user int) (int, api.Errno) {
+	if k.drive.IsDown() {
+		return 0, api.ErrDown
+	}
 	if !sessions.IsUser(user) {
 		return 0, api.ErrArg
 	}
@@ -149,6 +155,9 @@ func (k *Keeper) LogoutAll(user int) (int, api.Errno) {
 
 // Tick lets time go by (P10).
 func (k *Keeper) Tick(n int) api.Errno {
+	if k.drive.IsDown() {
+		return api.ErrDown
+	}
 	if n < 0 || n > api.MaxTime-k.now {
 		return api.ErrArg
 	}
@@ -157,18 +166,23 @@ func (k *Keeper) Tick(n int) api.Errno {
 }
 
 // Live tells how many sessions there are (P10).
-func (k *Keeper) Live() (int, api.Errno) { return k.sessions.Live(), api.OK }
+func (k *Keeper) Live() (int, api.Errno) {
+	if k.drive.IsDown() {
+		return 0, api.ErrDown
+	}
+	return k.sessions.Live(), api.OK
+}
 
 // Compact writes all anew (P11).
 func (k *Keeper) Compact() api.Errno {
-	if err := k.journal.Compact(k.sessions); err != nil {
-		return api.ErrFull
+	if k.drive.IsDown() {
+		return api.ErrDown
 	}
-	return api.OK
+	return errnoOf(k.journal.Compact(k.sessions))
 }
 
 // Arm says at which disk step from now on the power goes (P12).
-func (k *Keeper) Arm(n int) {}
+func (k *Keeper) Arm(n int) { k.drive.Arm(n) }
 
 // Left tells what is on the disk, if the power goes now or is gone (P13).
 func (k *Keeper) Left(keep, torn, part int) string { return k.drive.Left(keep, torn, part) }

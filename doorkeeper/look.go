@@ -1,13 +1,19 @@
 package doorkeeper
 
 import (
+	"errors"
+
 	"doorkeeper/api"
+	"doorkeeper/drive"
 	"doorkeeper/passes"
 	"doorkeeper/sessions"
 )
 
 // find looks at a pass, and leaves a session that is over as it is.
 func (k *Keeper) find(pass string) (sessions.Session, api.Errno) {
+	if k.drive.IsDown() {
+		return sessions.Session{}, api.ErrDown
+	}
 	id, err := passes.Read(k.secret, pass)
 	if err != nil {
 		return sessions.Session{}, api.ErrPass
@@ -43,8 +49,20 @@ func (k *Keeper) end(session sessions.Session) api.Errno {
 func (k *Keeper) change(c sessions.Change) api.Errno {
 	c.Time = k.now
 	if err := k.journal.Append(c); err != nil {
-		return api.ErrFull
+		return errnoOf(err)
 	}
 	k.sessions.Do(c)
 	return api.OK
+}
+
+// errnoOf tells what came of writing to the disk.
+func errnoOf(err error) api.Errno {
+	switch {
+	case err == nil:
+		return api.OK
+	case errors.Is(err, drive.ErrDown):
+		return api.ErrDown
+	default:
+		return api.ErrFull
+	}
 }

@@ -1,28 +1,38 @@
 package doorkeeper
 
 import (
-	"math/rand"
 	"sort"
-	"strconv"
 	"strings"
-	"testing"
 
 	"doorkeeper/api"
 )
 
 // model does what the document says in the plainest way, with lists instead of
-// maps and with the regions as texts: it and a keeper are asked the same.
+// maps and with the disk as a list of sectors: it and a keeper are asked the
+// same.
 type model struct {
 	c          api.Config
 	passes     map[string]int // each that there can be
 	live       []modelSession
-	heads      [2]string
-	regions    [2]string // without the noughts at the end
-	room       int       // bytes of a region
+	sectors    []string
+	underWay   []modelWrite
+	armed      int
+	down       bool
 	generation int
 	head, used int // the sector of the head, and the region in use
 	number     int
+	next       int // the byte at which the next record begins
 	x, time    int
+	last       struct { // what was under way when the power went
+		begin int
+		text  string // if it stands on the disk, the change is made
+		made  func()
+	}
+}
+
+type modelWrite struct {
+	sector int
+	text   string
 }
 
 type modelSession struct {
@@ -39,25 +49,111 @@ func (m *model) at(id int) int {
 	return -1
 }
 
-func (m *model) write(payload string) api.Errno {
+func (m *model) half() int { return (len(m.sectors) - 2) / 2 * 32 }
+
+func (m *model) end() int { return 64 + (m.used+1)*m.half() }
+
+func (m *model) disk() string { return strings.Join(m.sectors, "") }
+
+// step counts a disk step, and tells whether there is power behind it.
+func (m *model) step() bool {
+	m.armed--
+	m.down = m.down || m.armed == 0
+	return !m.down
+}
+
+// put is to write a text to the disk and to flush. It tells whether there is
+// power behind it.
+func (m *model) put(begin int, text string) bool {
+	disk := m.disk()
+	disk = disk[:begin] + text + disk[begin+len(text):]
+	for i := range m.sectors {
+		if i < begin/32 || i > (begin+len(text)-1)/32 {
+			continue
+		}
+		m.underWay = append(m.underWay, modelWrite{i, disk[32*i : 32*i+32]})
+		if !m.step() {
+			return false
+		}
+	}
+	if !m.step() {
+		return false
+	}
+	m.sectors = m.left(-1, -1, 0)
+	m.underWay = nil
+	return true
+}
+
+func (m *model) left(keep, torn, part int) []string {
+	left := append([]string(nil), m.sectors...)
+	for i, w := range m.underWay {
+		bit := i
+		if bit > 62 {
+			bit = 62
+		}
+		switch {
+		case i == torn && part >= 32, i != torn && keep&(1<<bit) != 0:
+			left[w.sector] = w.text
+		case i == torn && part > 0:
+			left[w.sector] = w.text[:part] + left[w.sector][part:]
+		}
+	}
+	return left
+}
+
+// write makes a change, with its record on the disk.
+func (m *model) write(payload string, change func()) api.Errno {
 	r := record(m.generation, m.number, payload)
-	if len(m.regions[m.used])+len(r) > m.room {
+	if m.next+len(r) > m.end() || m.number > 65535 {
 		return api.ErrFull
 	}
-	m.regions[m.used] += r
-	m.number++
+	m.last.begin, m.last.text = m.next, r
+	m.last.made = func() {
+		change()
+		m.next += len(r)
+		m.number++
+	}
+	if !m.put(m.next, r) {
+		return api.ErrDown
+	}
+	m.last.made()
 	return api.OK
 }
 
 func (m *model) compact() api.Errno {
+	if m.down {
+		return api.ErrDown
+	}
 	r := record(m.generation+1, 0, m.snapshot())
-	if m.generation == 1000000000 || len(r) > m.room {
+	if m.generation == 1000000000 || len(r) > m.half() {
 		return api.ErrFull
 	}
-	m.generation, m.head, m.used, m.number = m.generation+1, 1-m.head, 1-m.used, 1
-	m.regions[m.used] = r
-	m.heads[m.head] = headOf(m.generation, m.used)
+	other := 64 + (1-m.used)*m.half()
+	head := headOf(m.generation+1, 1-m.used)
+	m.last.begin, m.last.text = 32*(1-m.head), head
+	m.last.made = func() {
+		m.generation, m.head, m.used, m.number, m.next = m.generation+1, 1-m.head, 1-m.used, 1, other+len(r)
+	}
+	if !m.put(other, fill(r, m.half())) || !m.put(32*(1-m.head), head) {
+		return api.ErrDown
+	}
+	m.last.made()
 	return api.OK
+}
+
+// powerAgain is the model that has power again with these sectors, and what was
+// under way if that stands on them.
+func (m *model) powerAgain(sectors []string) {
+	m.sectors, m.underWay = sectors, nil
+	if disk := m.disk(); m.down && disk[m.last.begin:m.last.begin+len(m.last.text)] == m.last.text {
+		m.last.made()
+	}
+	m.down = false
+	disk := m.disk()
+	disk = disk[:m.next] + fill("", m.end()-m.next) + disk[m.end():]
+	for i := range m.sectors {
+		m.sectors[i] = disk[32*i : 32*i+32]
+	}
 }
 
 func (m *model) draw() (int, bool) {
@@ -71,6 +167,9 @@ func (m *model) draw() (int, bool) {
 }
 
 func (m *model) login(user int) (string, api.Errno) {
+	if m.down {
+		return "", api.ErrDown
+	}
 	if user < 1 || user > 99 {
 		return "", api.ErrArg
 	}
@@ -81,22 +180,29 @@ func (m *model) login(user int) (string, api.Errno) {
 	if !ok {
 		return "", api.ErrLimit
 	}
-	if e := m.write("L" + n(2, id) + n(1, user) + n(4, m.time)); e != api.OK {
+	e := m.write("L"+n(2, id)+n(1, user)+n(4, m.time), func() {
+		m.live = append(m.live, modelSession{id, user, m.time, m.time, nil})
+	})
+	return passIf(id, e)
+}
+
+func passIf(id int, e api.Errno) (string, api.Errno) {
+	if e != api.OK {
 		return "", e
 	}
-	m.live = append(m.live, modelSession{id, user, m.time, m.time, nil})
 	return passOf(id), api.OK
 }
 
-func (m *model) end(i int) api.Errno {
-	e := m.write("X" + n(2, m.live[i].id))
-	if e == api.OK {
+func (m *model) ended(i int) api.Errno {
+	return m.write("X"+n(2, m.live[i].id), func() {
 		m.live = append(m.live[:i:i], m.live[i+1:]...)
-	}
-	return e
+	})
 }
 
 func (m *model) look(pass string, ends bool) (int, api.Errno) {
+	if m.down {
+		return 0, api.ErrDown
+	}
 	id, ok := m.passes[pass]
 	if !ok {
 		return 0, api.ErrPass
@@ -109,7 +215,7 @@ func (m *model) look(pass string, ends bool) (int, api.Errno) {
 		return i, api.OK
 	}
 	if ends {
-		if e := m.end(i); e != api.OK {
+		if e := m.ended(i); e != api.OK {
 			return 0, e
 		}
 	}
@@ -121,11 +227,7 @@ func (m *model) touch(pass string) api.Errno {
 	if e != api.OK {
 		return e
 	}
-	if e := m.write("T" + n(2, m.live[i].id) + n(4, m.time)); e != api.OK {
-		return e
-	}
-	m.live[i].used = m.time
-	return api.OK
+	return m.write("T"+n(2, m.live[i].id)+n(4, m.time), func() { m.live[i].used = m.time })
 }
 
 func (m *model) rotate(pass string) (string, api.Errno) {
@@ -137,11 +239,10 @@ func (m *model) rotate(pass string) (string, api.Errno) {
 	if !ok {
 		return "", api.ErrLimit
 	}
-	if e := m.write("R" + n(2, m.live[i].id) + n(2, id) + n(4, m.time)); e != api.OK {
-		return "", e
-	}
-	m.live[i].id, m.live[i].used = id, m.time
-	return passOf(id), api.OK
+	e = m.write("R"+n(2, m.live[i].id)+n(2, id)+n(4, m.time), func() {
+		m.live[i].id, m.live[i].used = id, m.time
+	})
+	return passIf(id, e)
 }
 
 func (m *model) set(pass, name, text string) api.Errno {
@@ -162,12 +263,10 @@ func (m *model) set(pass, name, text string) api.Errno {
 	if at == 3 {
 		return api.ErrLimit
 	}
-	if e := m.write("S" + n(2, s.id) + n(1, len(name)) + name + n(1, len(text)) + text + n(4, m.time)); e != api.OK {
-		return e
-	}
-	s.values = append(s.values[:at:at], append([][2]string{{name, text}}, s.values[min(at+1, len(s.values)):]...)...)
-	s.used = m.time
-	return api.OK
+	return m.write("S"+n(2, s.id)+n(1, len(name))+name+n(1, len(text))+text+n(4, m.time), func() {
+		s.values = append(s.values[:at:at], append([][2]string{{name, text}}, s.values[min(at+1, len(s.values)):]...)...)
+		s.used = m.time
+	})
 }
 
 func (m *model) get(pass, name string) (string, api.Errno) {
@@ -188,10 +287,13 @@ func (m *model) logout(pass string) api.Errno {
 	if e != api.OK {
 		return e
 	}
-	return m.end(i)
+	return m.ended(i)
 }
 
 func (m *model) logoutAll(user int) (int, api.Errno) {
+	if m.down {
+		return 0, api.ErrDown
+	}
 	if user < 1 || user > 99 {
 		return 0, api.ErrArg
 	}
@@ -205,24 +307,34 @@ func (m *model) logoutAll(user int) (int, api.Errno) {
 	if count == 0 {
 		return 0, api.OK
 	}
-	if e := m.write("U" + n(1, user)); e != api.OK {
+	if e := m.write("U"+n(1, user), func() { m.live = others }); e != api.OK {
 		return 0, e
 	}
-	m.live = others
 	return count, api.OK
 }
 
+func (m *model) count() (int, api.Errno) {
+	if m.down {
+		return 0, api.ErrDown
+	}
+	return len(m.live), api.OK
+}
+
+func (m *model) arm(n int) {
+	if !m.down {
+		m.armed = max(n, 0)
+	}
+}
+
 func (m *model) tick(by int) api.Errno {
+	if m.down {
+		return api.ErrDown
+	}
 	if by < 0 || m.time+by > 1000000000 {
 		return api.ErrArg
 	}
 	m.time += by
 	return api.OK
-}
-
-func (m *model) disk(sectors int) string {
-	heads := m.heads[0] + m.heads[1]
-	return fill(heads+fill(m.regions[0], m.room)+fill(m.regions[1], m.room), 32*sectors)
 }
 
 // snapshot is the one of all sessions.
@@ -238,114 +350,4 @@ func (m *model) snapshot() string {
 		}
 	}
 	return text
-}
-
-// both are a keeper and a model that are asked the same.
-type both struct {
-	*testing.T
-	k       *Keeper
-	m       *model
-	r       *rand.Rand
-	sectors int
-	passes  []string
-}
-
-func (b *both) reopen() {
-	b.m.c.Seed, b.m.c.Now = b.r.Intn(65537), b.m.time
-	b.m.x = b.m.c.Seed
-	b.k = opened(b.T, b.m.disk(b.sectors), b.m.c)
-}
-
-// begin has no sessions. The head and its region are anywhere, and the others
-// are whatever they are.
-func (b *both) begin() {
-	m, r := b.m, b.r
-	m.generation, m.number, m.head, m.used = 2+r.Intn(7), 1, r.Intn(2), r.Intn(2)
-	if r.Intn(4) == 0 {
-		m.generation = 1000000000 - r.Intn(7)
-	}
-	others := []string{fill("", 32), headOf(m.generation-1, r.Intn(2)), fill("DK", 32), "a sector that is not any head ..."[:32]}
-	m.heads[m.head], m.heads[1-m.head] = headOf(m.generation, m.used), others[r.Intn(len(others))]
-	m.regions[m.used], m.regions[1-m.used] = record(m.generation, 0, "\x00"), strings.Repeat("other...", r.Intn(m.room/8+1))
-	b.reopen()
-}
-
-func (b *both) pass() string {
-	if len(b.passes) == 0 || b.r.Intn(20) == 0 {
-		return passOf(b.r.Intn(4096))[:b.r.Intn(2)+8]
-	}
-	return b.passes[max(0, len(b.passes)-1-b.r.Intn(14))]
-}
-
-func (b *both) text() string {
-	texts := []string{"a", "b", "c", "", "d", "eight-by", "\x00", "nine-byte"}
-	return texts[b.r.Intn(len(texts))]
-}
-
-func (b *both) got(pass string, e api.Errno) (string, api.Errno) {
-	if e == api.OK {
-		b.passes = append(b.passes, pass)
-	}
-	return pass, e
-}
-
-// ask asks for something, and tells what, and what both answered.
-func (b *both) ask() (what, got, want string) {
-	pass, name, text, user := b.pass(), b.text(), b.text(), b.r.Intn(6)
-	if b.r.Intn(30) == 0 {
-		return "Compact", told("", b.k.Compact()), told("", b.m.compact())
-	}
-	switch b.r.Intn(10) {
-	case 0, 1:
-		return "Login", told(b.got(b.k.Login(user))), told(b.m.login(user))
-	case 2:
-		return "Rotate", told(b.got(b.k.Rotate(pass))), told(b.m.rotate(pass))
-	case 3:
-		return "Touch", told("", b.k.Touch(pass)), told("", b.m.touch(pass))
-	case 4, 5:
-		return "Set", told("", b.k.Set(pass, name, text)), told("", b.m.set(pass, name, text))
-	case 6:
-		return "Get", told(b.k.Get(pass, name)), told(b.m.get(pass, name))
-	case 7:
-		return "Logout", told("", b.k.Logout(pass)), told("", b.m.logout(pass))
-	case 8:
-		if b.r.Intn(4) > 0 {
-			break
-		}
-		return "LogoutAll", toldCount(b.k.LogoutAll(user)), toldCount(b.m.logoutAll(user))
-	}
-	by := b.r.Intn(5) - 1
-	return "Tick", told("", b.k.Tick(by)), told("", b.m.tick(by))
-}
-
-func told(text string, e api.Errno) string { return strconv.Quote(text) + ", " + strconv.Itoa(int(e)) }
-
-func toldCount(count int, e api.Errno) string { return told(strconv.Itoa(count), e) }
-
-func TestKeeperAndModel(t *testing.T) {
-	passes := map[string]int{}
-	for id := range 4096 {
-		passes[passOf(id)] = id
-	}
-	for seed := range 150 {
-		r := rand.New(rand.NewSource(int64(seed)))
-		m := &model{c: plain, passes: passes}
-		b := &both{T: t, m: m, r: r, sectors: 12 + r.Intn(189)}
-		m.c.Idle, m.c.Absolute = 1+r.Intn(40), 1+r.Intn(200)
-		m.room = (b.sectors - 2) / 2 * 32
-		b.begin()
-		for i := range 400 {
-			what, got, want := b.ask()
-			if got != want {
-				t.Fatalf("P5 to P11: seed %d, call %d: %s = %s, want %s", seed, i, what, got, want)
-			}
-			gives(t, "P10: Live", len(m.live), api.OK)(b.k.Live())
-			if b.k.disk(b.T) != m.disk(b.sectors) {
-				t.Fatalf("P6, P11, P13: seed %d, call %d: behind %s the disk is another", seed, i, what)
-			}
-			if r.Intn(40) == 0 {
-				b.reopen()
-			}
-		}
-	}
 }

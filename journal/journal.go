@@ -21,8 +21,8 @@ type Drive interface {
 	Sectors() int
 	Stable() string
 	Clear(begin, end int)
-	Put(begin int, text string)
-	Flush()
+	Put(begin int, text string) error
+	Flush() error
 }
 
 // Journal is the region in use of a drive.
@@ -103,7 +103,8 @@ func (j *Journal) pass(bytes int) {
 	j.number++
 }
 
-// Append writes a change behind the last one.
+// Append writes a change behind the last one. Its error is ErrFull, or what the
+// drive tells: then the change is not the last one.
 func (j *Journal) Append(change sessions.Change) error {
 	if j.number > math.MaxUint16 {
 		return ErrFull
@@ -112,10 +113,19 @@ func (j *Journal) Append(change sessions.Change) error {
 	if len(record) > j.room() {
 		return ErrFull
 	}
-	j.drive.Put(j.next, record)
-	j.drive.Flush()
+	if err := j.store(j.next, record); err != nil {
+		return err
+	}
 	j.pass(len(record))
 	return nil
+}
+
+// store writes a text, and answers when it stands on the disk.
+func (j *Journal) store(begin int, text string) error {
+	if err := j.drive.Put(begin, text); err != nil {
+		return err
+	}
+	return j.drive.Flush()
 }
 
 func (j *Journal) record(payload string) string {
@@ -125,7 +135,8 @@ func (j *Journal) record(payload string) string {
 func (j *Journal) room() int { return j.end - j.next }
 
 // Compact begins the other region with a snapshot of all sessions, and goes on
-// there. Its head comes last: what a head tells of must stand on the disk.
+// there. Its head comes last: what a head tells of must stand on the disk. Its
+// error is ErrFull, or what the drive tells.
 func (j *Journal) Compact(state *sessions.State) error {
 	if j.head.Generation >= lastGeneration {
 		return ErrFull
@@ -135,10 +146,13 @@ func (j *Journal) Compact(state *sessions.State) error {
 	if len(record) > other.room() {
 		return ErrFull
 	}
-	j.drive.Put(other.next, layout.Fill(record, other.room()))
-	j.drive.Flush()
-	j.drive.Put(other.head.Sector*api.Sector, layout.Head(other.head.Generation, other.head.Region))
-	j.drive.Flush()
+	if err := j.store(other.next, layout.Fill(record, other.room())); err != nil {
+		return err
+	}
+	head := layout.Head(other.head.Generation, other.head.Region)
+	if err := j.store(other.head.Sector*api.Sector, head); err != nil {
+		return err
+	}
 	other.pass(len(record))
 	*j = *other
 	return nil

@@ -23,14 +23,14 @@ func (w *watched) Clear(begin, end int) {
 	w.Drive.Clear(begin, end)
 }
 
-func (w *watched) Put(begin int, text string) {
+func (w *watched) Put(begin int, text string) error {
 	w.steps = append(w.steps, put(begin, len(text)))
-	w.Drive.Put(begin, text)
+	return w.Drive.Put(begin, text)
 }
 
-func (w *watched) Flush() {
+func (w *watched) Flush() error {
 	w.steps = append(w.steps, "flush")
-	w.Drive.Flush()
+	return w.Drive.Flush()
 }
 
 func put(begin, bytes int) string { return "put " + strconv.Itoa(bytes) + " at " + strconv.Itoa(begin) }
